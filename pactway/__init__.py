@@ -1,0 +1,1 @@
+"""Pactway: agreements gone through turn by turn."""

@@ -51,6 +51,10 @@ def nodes(kinds):
     return [(name, node) for name, tree in trees() for node in ast.walk(tree) if isinstance(node, kinds)]
 
 
+def called(node, names):
+    return isinstance(node, ast.Call) and isinstance(node.func, ast.Name) and node.func.id in names
+
+
 def pythons_methods():
     return {name for kind in (str, int, list, tuple, dict, set, bytes) for name in dir(kind)}
 
@@ -130,6 +134,18 @@ class Code(unittest.TestCase):
                 self.assertTrue(any(side is None or side is True or side is False for side in sides),
                                 (name, node.lineno))
 
+    def test_sets_are_not_kept(self):
+        for name, tree in trees():
+            made = [node for node in ast.walk(tree) if called(node, ["set", "frozenset"])]
+            on_the_spot = []
+            for node in ast.walk(tree):
+                if called(node, ["len", "sorted"]):
+                    on_the_spot += node.args
+                if isinstance(node, ast.Compare):
+                    on_the_spot += [node.left] + node.comparators
+            for node in made:
+                self.assertIn(node, on_the_spot, (name, node.lineno))
+
     def test_functions(self):
         for name, node in nodes(ast.FunctionDef):
             self.assertLessEqual(node.end_lineno - node.lineno + 1, 40, (name, node.name))
@@ -180,6 +196,30 @@ class Names(unittest.TestCase):
         own = {row.name for row in methods}
         for name, word in self.bound():
             self.assertTrue(word in own or word not in dir(builtins), (name, word))
+
+    def test_no_parameter_or_local_is_called_like_a_class_or_an_import_of_its_file(self):
+        for name, tree in trees():
+            taken = {node.name for node in ast.walk(tree) if isinstance(node, ast.ClassDef)}
+            taken |= {alias.name for node in ast.walk(tree) if isinstance(node, ast.ImportFrom)
+                      for alias in node.names}
+            given = {node.arg for node in ast.walk(tree) if isinstance(node, ast.arg)}
+            given |= {node.id for node in ast.walk(tree)
+                      if isinstance(node, ast.Name) and isinstance(node.ctx, ast.Store)}
+            self.assertEqual(taken & given, set(), name)
+
+    def test_each_import_is_from_the_file_that_defines_the_name_and_is_used(self):
+        tops = {}
+        for name, tree in trees():
+            tops[name] = [node.name for node in tree.body if isinstance(node, (ast.FunctionDef, ast.ClassDef))]
+            tops[name] += [node.targets[0].id for node in tree.body if isinstance(node, ast.Assign)]
+            self.assertEqual(len(tops[name]), len(set(tops[name])), name)
+        for name, tree in trees():
+            used = {node.id for node in ast.walk(tree) if isinstance(node, ast.Name)}
+            for node in ast.walk(tree):
+                if isinstance(node, ast.ImportFrom) and node.module != "__future__":
+                    for alias in node.names:
+                        self.assertIn(alias.name, tops[node.module.split(".")[1] + ".py"], name)
+                        self.assertIn(alias.name, used, name)
 
     def test_attributes(self):
         for name, node in nodes(ast.Attribute):

@@ -4,6 +4,16 @@ from pactway.errors import CalmRoom, NoName
 from pactway.parts import Let, Part
 from pactway.rows import MARKS
 
+# The places of what flat tells of a clause.
+LABEL = 0
+SORT = 1
+WHO = 2
+ACT = 3
+NUMBER = 4
+ROOM = 5
+ROOMS = 6
+DEPTH = 7
+
 
 class Scope:
     # A room's kind is its mark, so that a calm one is known behind whatever name.
@@ -96,3 +106,20 @@ def room_led_to(clause, scope):
     if clause.sort_word() == "power":
         return scope.room_for(room)
     return scope.falls_to(room)
+
+
+def duties_among(clauses):
+    return [clause for clause in clauses if clause[SORT] == "must"]
+
+
+# None stands for no word: the act is free.
+def is_ban(word):
+    return word is not None and word[SORT] == "ban"
+
+
+def room_behind(room, word, broken):
+    if len(broken) > 0:
+        return broken[0][ROOM]
+    if word is not None and word[SORT] == "power":
+        return word[ROOM]
+    return room

@@ -4,6 +4,7 @@ KEPT = (
     "acts", "any", "be", "by", "calm", "done", "else", "end", "in", "let",
     "may", "must", "not", "part", "parties", "rest", "sore", "to", "whole",
 )
+REST = "rest"
 LETTERS = "abcdefghijklmnopqrstuvwxyz"
 FIGURES = "0123456789"
 MOST_LETTERS = 8

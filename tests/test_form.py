@@ -146,6 +146,22 @@ class Code(unittest.TestCase):
             for node in made:
                 self.assertIn(node, on_the_spot, (name, node.lineno))
 
+    def test_what_is_walked_is_walked_at_once(self):
+        for name, tree in trees():
+            walked = []
+            for node in ast.walk(tree):
+                if isinstance(node, (ast.For, ast.comprehension)):
+                    walked.append(node.iter)
+                if called(node, ["list", "tuple", "dict", "sorted", "sum", "any", "all", "enumerate", "zip"]):
+                    walked += node.args
+                if called(node, ["min", "max"]) and len(node.args) == 1:
+                    walked += node.args
+            for node in ast.walk(tree):
+                of_a_dict = (isinstance(node, ast.Call) and isinstance(node.func, ast.Attribute)
+                             and node.func.attr in ["items", "keys", "values"])
+                if of_a_dict or called(node, ["zip", "enumerate", "reversed", "range"]):
+                    self.assertIn(node, walked, (name, node.lineno))
+
     def test_functions(self):
         for name, node in nodes(ast.FunctionDef):
             self.assertLessEqual(node.end_lineno - node.lineno + 1, 40, (name, node.name))
